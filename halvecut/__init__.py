@@ -1,0 +1,1 @@
+"""Halvecut: dots in the plane, parted fairly."""

@@ -1,0 +1,35 @@
+"""Gauges (c, a, b), which read c * by + a * x + b * y at a place, and lines among them."""
+
+from halvecut.errors import NoLine
+from halvecut.wholes import reduced, sign
+
+
+def value(gauge, place):
+    return gauge[0] * place[0] + gauge[1] * place[1] + gauge[2] * place[2]
+
+
+def side(gauge, place):
+    return sign(value(gauge, place))
+
+
+def crossed(one, other):
+    # The same three products give the line of two places and the place of two lines.
+    return (
+        one[1] * other[2] - other[1] * one[2],
+        one[2] * other[0] - other[2] * one[0],
+        one[0] * other[1] - other[0] * one[1],
+    )
+
+
+def line(one, other):
+    gauge = crossed(one, other)
+    if gauge[1] == 0 and gauge[2] == 0:
+        raise NoLine("one place alone is on many lines")
+    return reduced(gauge, gauge[1] if gauge[1] != 0 else gauge[2])
+
+
+def crossing(one, other):
+    common = crossed(one, other)
+    if common[0] == 0:
+        return None
+    return reduced(common, common[0])

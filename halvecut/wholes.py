@@ -1,0 +1,31 @@
+"""Whole numbers: what counts as one, signs, and triples in lowest terms."""
+
+
+def is_whole(thing):
+    # Python has True and False under int; here they are no numbers.
+    return isinstance(thing, int) and not isinstance(thing, bool)
+
+
+def sign(number):
+    if number > 0:
+        return 1
+    if number < 0:
+        return -1
+    return 0
+
+
+def common_divisor(one, other):
+    while other != 0:
+        rest = one % other
+        one = other
+        other = rest
+    return abs(one)
+
+
+def reduced(triple, lead):
+    # Places and lines have one way to be written each: besides the common divisor,
+    # the sign of the lead (by for a place, the first of a and b that is not 0 for a line) goes out.
+    divisor = common_divisor(common_divisor(triple[0], triple[1]), triple[2])
+    if lead < 0:
+        divisor = -divisor
+    return (triple[0] // divisor, triple[1] // divisor, triple[2] // divisor)
