@@ -33,3 +33,12 @@ def crossing(one, other):
     if common[0] == 0:
         return None
     return reduced(common, common[0])
+
+
+def facing(place, way):
+    # The gauge that the place is on, and whose places over it lie in the way of that arrow.
+    return (
+        -(way[0] * place[1] + way[1] * place[2]),
+        way[0] * place[0],
+        way[1] * place[0],
+    )

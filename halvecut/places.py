@@ -30,6 +30,14 @@ def swing(one, two, three):
     )
 
 
+def arrow(one, other):
+    # The way from one place to the other, longer by the product of both bys, so that it is whole.
+    return (
+        one[0] * other[1] - other[0] * one[1],
+        one[0] * other[2] - other[0] * one[2],
+    )
+
+
 def mixed(places, shares):
     # All places are brought to one length of step first, so that their steps may be added up.
     steps = 1
