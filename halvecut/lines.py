@@ -24,8 +24,12 @@ def split_by(dots, lines):
     return [(each,) + weighed(dots, each) for each in sorted(set(lines))]
 
 
+def pair_lines(dots):
+    return [pair_line(dots, pair) for pair in spot_pairs(dots)]
+
+
 def lines_of(dots):
-    return split_by(dots, [pair_line(dots, pair) for pair in spot_pairs(dots)])
+    return split_by(dots, pair_lines(dots))
 
 
 def is_even(under, over, whole):

@@ -3,12 +3,8 @@
 from halvecut.errors import TooFew
 from halvecut.gauges import side
 from halvecut.hulls import bounds, hull
-from halvecut.places import arrow, place_of
+from halvecut.places import arrow, place_of, turn
 from halvecut.wholes import lowest, picks
-
-
-def turn(one, other):
-    return one[0] * other[1] - other[0] * one[1]
 
 
 def length(way):

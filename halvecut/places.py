@@ -38,6 +38,19 @@ def arrow(one, other):
     )
 
 
+def turn(one, other):
+    # Positive if the second arrow points to the left of the first one, negative if to its right.
+    return one[0] * other[1] - other[0] * one[1]
+
+
+def back(way):
+    return (-way[0], -way[1])
+
+
+def left_of(way):
+    return (-way[1], way[0])
+
+
 def mixed(places, shares):
     # All places are brought to one length of step first, so that their steps may be added up.
     steps = 1

@@ -1,4 +1,6 @@
-"""What several test files draw on: strewn dots that are the same in every run, maps, and slow sides."""
+"""What several test files draw on: strewn dots that are the same in every run, maps, and slow counts."""
+
+from fractions import Fraction
 
 FAR = 999999999999
 HEAVY = 999999999
@@ -59,3 +61,30 @@ def beside(dots, i, j):
     """The weights on either side of the directed line from dot i to dot j: right and left."""
     turns = [(turn(dots[i], dots[j], dot), dot[3]) for dot in dots]
     return (sum(weight for side, weight in turns if side < 0), sum(weight for side, weight in turns if side > 0))
+
+
+def point(where):
+    """A place as two fractions."""
+    return (Fraction(where[1], where[0]), Fraction(where[2], where[0]))
+
+
+def slow_depth(dots, where):
+    """Over all lines through the place and a dot, turned ever so little either way, the lightest side."""
+    by, x, y = where
+    ways = [(by * dot[0] - x, by * dot[1] - y, dot[3]) for dot in dots]
+    here = sum(weight for right, up, weight in ways if right == up == 0)
+    lightest = sum(weight for right, up, weight in ways)
+    for right, up, unused in ways:
+        if right == up == 0:
+            continue
+        left = after = before = 0
+        for across, above, weight in ways:
+            turned = right * above - across * up
+            along = right * across + up * above
+            left += weight if turned > 0 else 0
+            after += weight if turned == 0 and along > 0 else 0
+            before += weight if turned == 0 and along < 0 else 0
+        rest = sum(weight for across, above, weight in ways) - left - after - before - here
+        # Turned to the left, the line leaves the dots ahead on its right and those behind on its left.
+        lightest = min(lightest, here + left + min(after, before), here + rest + min(after, before))
+    return lightest
