@@ -71,7 +71,7 @@ def greatest_depth(dots, planes):
 def shallow_bars(dots, planes, found):
     weight = total(dots) - found
     if weight == 0:
-        # All dots share one spot; half planes without any weight will do.
+        # All dots share one spot; any half planes without a common place will do, whatever they weigh.
         return [((-1, 1, 0), 1), ((0, -1, 0), 1)]
     corners = hull_of(dots)
     gauges = bounds(corners) + rims(planes, weight)
