@@ -42,6 +42,10 @@ def spot_of(dot):
     return (dot[0], dot[1])
 
 
+def spots_of(dots):
+    return [spot_of(dot) for dot in dots]
+
+
 def of_colour(dots, colour):
     return [dot for dot in dots if colour is None or dot[2] == colour]
 

@@ -12,6 +12,14 @@ def side(gauge, place):
     return sign(value(gauge, place))
 
 
+def is_level(gauge):
+    return gauge[1] == 0 and gauge[2] == 0
+
+
+def with_share(gauge, other, share):
+    return (gauge[0] + other[0] * share, gauge[1] + other[1] * share, gauge[2] + other[2] * share)
+
+
 def crossed(one, other):
     # The same three products give the line of two places and the place of two lines.
     return (
@@ -23,7 +31,7 @@ def crossed(one, other):
 
 def line(one, other):
     gauge = crossed(one, other)
-    if gauge[1] == 0 and gauge[2] == 0:
+    if is_level(gauge):
         raise NoLine("one place alone is on many lines")
     return reduced(gauge, gauge[1] if gauge[1] != 0 else gauge[2])
 

@@ -1,5 +1,6 @@
 """Hulls that meet: a place in all of them, or gauges of two or three of them that show that there is none."""
 
+from halvecut.gauges import with_share
 from halvecut.hulls import bounds, hull
 from halvecut.mixtures import mixture
 from halvecut.planes import bars, common
@@ -10,10 +11,6 @@ def owned_gauges(lists):
     for index, spots in enumerate(lists):
         found.extend([(index, gauge) for gauge in bounds(hull(spots))])
     return found
-
-
-def with_share(total, gauge, share):
-    return (total[0] + gauge[0] * share, total[1] + gauge[1] * share, total[2] + gauge[2] * share)
 
 
 def bar_rows(owned, shares):

@@ -1,6 +1,6 @@
 """Regions of depth, the middle of dots, and the deepest place with what shows that none is deeper."""
 
-from halvecut.dots import spot_of, total
+from halvecut.dots import spots_of, total
 from halvecut.errors import NoSuch, TooFew, TooMany
 from halvecut.hulls import bounds, hull
 from halvecut.lines import pair_lines, split_by
@@ -34,7 +34,7 @@ def rims(planes, weight):
 
 
 def hull_of(dots):
-    return hull([spot_of(dot) for dot in dots])
+    return hull(spots_of(dots))
 
 
 def region_within(dots, planes, least):

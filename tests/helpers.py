@@ -52,6 +52,23 @@ def painted(spots, colour=0, weight=1):
     return [(x, y, colour, weight) for x, y in spots]
 
 
+def copied(answer):
+    """The same answer, with lists of its own."""
+    if isinstance(answer, (list, tuple)):
+        return type(answer)(copied(part) for part in answer)
+    return answer
+
+
+def spoil(answer):
+    """Changes every list within an answer."""
+    for part in answer:
+        if isinstance(part, (list, tuple)):
+            spoil(part)
+    if isinstance(answer, list):
+        answer.clear()
+        answer.append("other")
+
+
 def turn(one, two, three):
     """Above 0 if three spots run counterclockwise; the coordinates may be fractions."""
     return (two[0] - one[0]) * (three[1] - one[1]) - (three[0] - one[0]) * (two[1] - one[1])

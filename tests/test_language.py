@@ -26,6 +26,10 @@ BARRED_NODES = (
     ast.AsyncFunctionDef, ast.AsyncFor, ast.AsyncWith, ast.SetComp, ast.DictComp, ast.GeneratorExp, ast.NamedExpr,
     ast.Starred, ast.Div, ast.Import, ast.AnnAssign,
 )
+BARRED_VALUES = set(
+    "items keys values pop update append clear extend insert remove reverse setdefault sort args encode format".split()
+)
+FREE_VALUES = set("count index title find get join lower upper split strip copy add".split())
 DUNDERS = {"__init__", "__eq__", "__repr__", "__str__", "__len__"}
 
 
@@ -144,6 +148,48 @@ class TreeTest(unittest.TestCase):
         for where, node in places_and_nodes():
             if isinstance(node, ast.Call) and isinstance(node.func, ast.Attribute):
                 self.assertIn(node.func.attr, OWN_METHODS | own, where)
+
+
+    def test_values_of_objects(self):
+        methods, values = set(), set()
+        for where, node in places_and_nodes():
+            if isinstance(node, ast.ClassDef):
+                names = [part.name for part in node.body if isinstance(part, ast.FunctionDef)]
+                self.assertEqual(len(names), len(set(names)), where)
+                methods |= set(names)
+            if isinstance(node, ast.Attribute) and isinstance(node.ctx, ast.Store):
+                self.assertIsInstance(node.value, ast.Name, where)
+                values.add(node.attr)
+        self.assertEqual(methods & values, set())
+        own = {name for kind in (str, int, list, tuple, dict, set, bytes) for name in dir(kind)}
+        self.assertEqual(values & (BARRED_VALUES | own - FREE_VALUES), set())
+        self.assertEqual((methods - DUNDERS) & (own - OWN_METHODS - {"add", "discard"}), set())
+
+    def test_handlers(self):
+        for where, node in places_and_nodes():
+            if isinstance(node, ast.Try):
+                taken = [handler.type.id for handler in node.handlers]
+                self.assertFalse({"Exception", "TypeError"} & set(taken), where)
+                if {"ValueError", "LookupError"} & set(taken):
+                    self.assertEqual(len(node.body), 1, where)
+                    calls = [part for part in ast.walk(node.body[0]) if isinstance(part, ast.Call)]
+                    self.assertEqual([call.func.id for call in calls], ["int"], where)
+
+    def test_texts_within_the_files(self):
+        for where, node in places_and_nodes():
+            if isinstance(node, ast.Constant) and isinstance(node.value, str):
+                self.assertNotIn("%", node.value, where)
+            if isinstance(node, ast.FormattedValue):
+                self.assertIsInstance(node.value, ast.Name, where)
+                self.assertIsNone(node.format_spec, where)
+
+    def test_lists_and_dicts_of_a_file_hold_tuples_at_most(self):
+        for tree in trees().values():
+            for node in tree.body:
+                if isinstance(node, ast.Assign):
+                    inner = [part for part in ast.walk(node.value) if isinstance(part, (ast.List, ast.Dict))]
+                    self.assertLessEqual(len(inner), 1, node.lineno)
+                    self.assertFalse(inner and inner[0] is not node.value, node.lineno)
 
 
 class ImportsTest(unittest.TestCase):

@@ -6,23 +6,7 @@ from halvecut.gauges import side
 from halvecut.meets import hulls_meet
 from halvecut.mixtures import mixture
 from halvecut.places import mixed, place_of
-from helpers import FAR, MAPS, spread
-
-
-def copied(answer):
-    if isinstance(answer, (list, tuple)):
-        return type(answer)(copied(part) for part in answer)
-    return answer
-
-
-def spoil(answer):
-    """Changes every list within an answer."""
-    for part in answer:
-        if isinstance(part, (list, tuple)):
-            spoil(part)
-    if isinstance(answer, list):
-        answer.clear()
-        answer.append("other")
+from helpers import FAR, MAPS, copied, spoil, spread
 
 
 class MeetsTest(unittest.TestCase):
