@@ -38,11 +38,12 @@ def read_colour(word):
     return LETTERS.index(word)
 
 
-def read_weight(word):
-    weight = read_whole(word, DIGITS_OF_WEIGHT)
-    if weight < 2:
-        raise NoText("only a weight from 2 on is written out")
-    return weight
+def read_from_two(word, digits):
+    # A weight and a by of 1 are left out, so one that is written out is greater.
+    number = read_whole(word, digits)
+    if number < 2:
+        raise NoText("a weight or a by is written out from 2 on")
+    return number
 
 
 def read_dot(word):
@@ -52,7 +53,7 @@ def read_dot(word):
         read_whole(across[0], DIGITS_OF_COORDINATE),
         read_whole(upward[0], DIGITS_OF_COORDINATE),
         read_colour(word[:1]),
-        read_weight(upward[2]) if upward[1] == "w" else 1,
+        read_from_two(upward[2], DIGITS_OF_WEIGHT) if upward[1] == "w" else 1,
     )
 
 
@@ -80,20 +81,13 @@ def show_dots(dots):
     return " ".join([show_dot(dot) for dot in dots])
 
 
-def read_by(word):
-    by = read_whole(word, DIGITS_IN_PLACE)
-    if by < 2:
-        raise NoText("only a by from 2 on is written out")
-    return by
-
-
 def read_place(text):
     check_text(text)
     by = 1
     spot = text
     if "@" in text:
         parts = text.partition("@")
-        by = read_by(parts[0])
+        by = read_from_two(parts[0], DIGITS_IN_PLACE)
         spot = parts[2]
     across = spot.partition(":")
     triple = [by, read_whole(across[0], DIGITS_IN_PLACE), read_whole(across[2], DIGITS_IN_PLACE)]

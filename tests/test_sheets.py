@@ -191,29 +191,28 @@ class BackTest(SheetTest):
         self.told(sheet, "back", "5")
         self.stands(sheet, dots[:5])
 
-    def test_what_was_forgotten_stays_forgotten(self):
-        # 25 deeds, of which five are forgotten; ten are undone and seven more done, which leaves seventeen.
-        sheet = sheet_of(strewn(7, 25, 9))
-        for number in range(10):
+    def undo_and_go_on(self, done, undone, more, left):
+        """Of so many dots put, some are taken back and more put; then so many deeds can be undone."""
+        dots = strewn(7, done, 9)
+        sheet = sheet_of(dots)
+        for number in range(undone):
             sheet.ask("back")
-        for number in range(7):
+        for number in range(more):
             sheet.ask("put a0:0")
-        for number in range(17):
-            self.told(sheet, "back", str(21 - number))
+        for number in range(left):
+            self.told(sheet, "back", str(done - undone + more - number - 1))
         self.refuse(sheet, "back", TooFew)
-        self.stands(sheet, strewn(7, 25, 9)[:5])
+        self.stands(sheet, dots[:done - undone + more - left])
 
-    def test_older_deeds_after_back(self):
+    def test_what_was_forgotten_stays_forgotten(self):
+        # Of 25 deeds five are forgotten; ten are undone and seven more done, which leaves seventeen.
+        self.undo_and_go_on(25, 10, 7, 17)
+        self.undo_and_go_on(25, 20, 3, 3)
+
+    def test_older_deeds_are_forgotten_after_back(self):
         # Five of twenty are undone and ten more done: of these 25 the latest twenty are left.
-        sheet = sheet_of(strewn(8, 20, 9))
-        for number in range(5):
-            sheet.ask("back")
-        for number in range(10):
-            sheet.ask("put a0:0")
-        for number in range(20):
-            self.told(sheet, "back", str(24 - number))
-        self.refuse(sheet, "back", TooFew)
-        self.stands(sheet, strewn(8, 20, 9)[:5])
+        self.undo_and_go_on(20, 5, 10, 20)
+        self.undo_and_go_on(20, 5, 5, 20)
 
     def test_refused_deeds_are_not_remembered(self):
         sheet = sheet_of([(0, 0, 0, 1), (3, 4, 1, 1)])
